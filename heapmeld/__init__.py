@@ -1,0 +1,1 @@
+"""Heapmeld: heaps that join, the least key on top whatever was joined when."""
