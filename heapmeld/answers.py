@@ -1,6 +1,6 @@
 """Answers on how a heap leans, which can be asked whether a heap bears them out."""
 
-from heapmeld.knots import heap_knots_of, place_by, slants_of, top_of
+from heapmeld.knots import are_rising, heap_knots_of, place_by, slants_of, top_of
 
 # No refusal is told of shows, so greater heaps than may be handed in elsewhere are judged, too.
 # Only a walk through parts that stand in a heap again and again must come to an end.
@@ -78,11 +78,6 @@ def are_slanting_ways(knots, ways):
     if not isinstance(ways, list) or len(ways) != slants.count(True):
         return False
     return all([slants_by(knots, slants, way) for way in ways]) and are_rising(ways)
-
-
-def are_rising(ways):
-    """Whether each way stands, in the order of lists, behind the one before it."""
-    return all([one < other for one, other in zip(ways, ways[1:])])
 
 
 def is_made_of(new, old):

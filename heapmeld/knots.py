@@ -17,6 +17,11 @@ def are_keys(keys):
     return isinstance(keys, list) and len(keys) <= MOST_KEYS and all([is_number(key) for key in keys])
 
 
+def are_rising(values):
+    """Whether each value is greater than the one before it."""
+    return all([one < other for one, other in zip(values, values[1:])])
+
+
 def is_nothing(part):
     """Whether the part is ()."""
     return isinstance(part, tuple) and len(part) == 0
@@ -86,10 +91,19 @@ def sizes_of(knots):
     return worths_of(knots, lambda left, right: left + right + 1)
 
 
+def ranks_of(knots):
+    """The rank at each knot."""
+    return worths_of(knots, lambda left, right: min(left, right) + 1)
+
+
+def outweighed_of(knots, worths):
+    """Of each knot whether its right side is worth more than the left one."""
+    return [worth_at(worths, right) > worth_at(worths, left) for left, key, right in knots]
+
+
 def slants_of(knots):
     """Of each knot whether it slants."""
-    ranks = worths_of(knots, lambda left, right: min(left, right) + 1)
-    return [worth_at(ranks, right) > worth_at(ranks, left) for left, key, right in knots]
+    return outweighed_of(knots, ranks_of(knots))
 
 
 def top_of(knots):

@@ -25,6 +25,28 @@ def at_once(seconds=5):
         signal.signal(signal.SIGALRM, before)
 
 
+def refuse(case, kind, asked, *handed):
+    """Checks that what is handed in is refused, at once and by this class alone."""
+    with at_once(), case.assertRaises(kind) as told:
+        asked(*handed)
+    case.assertIs(type(told.exception), kind)
+
+
+def refuse_each(case, kind, asked, many):
+    """The same for each of many, asked with one at a time; what is nested deep is told by its place only."""
+    for at, handed in enumerate(many):
+        with case.subTest(at=at):
+            refuse(case, kind, asked, handed)
+
+
+def nested(levels):
+    """A tuple and a list, each around one, and so on, so many levels deep."""
+    deep_tuple, deep_list = (), []
+    for level in range(levels):
+        deep_tuple, deep_list = (deep_tuple,), [deep_list]
+    return deep_tuple, deep_list
+
+
 def leaf(key):
     return ((), key, ())
 
@@ -67,6 +89,14 @@ def shared(levels):
     return form
 
 
+def alike(levels):
+    """Like shared, but with one key at all knots."""
+    form = ()
+    for level in range(levels):
+        form = (form, 0, form)
+    return form
+
+
 def forms(many):
     """All forms of so many knots, all keys 0."""
     if many == 0:
@@ -75,6 +105,11 @@ def forms(many):
             for size in range(many)
             for left in forms(size)
             for right in forms(many - 1 - size)]
+
+
+def mixed(many):
+    """So many unlike keys in no plain order."""
+    return [(at * 17 + 5) % 41 - 20 for at in range(many)]
 
 
 def form_of(heap):
@@ -96,6 +131,10 @@ def keyed(form, keys):
 
 def rank(heap):
     return 1 + min(rank(heap[0]), rank(heap[2])) if heap else 0
+
+
+def size(heap):
+    return size(heap[0]) + size(heap[2]) + 1 if heap else 0
 
 
 def all_ways(heap):
@@ -127,3 +166,35 @@ def exchanged(heap, ways, here=()):
     left = exchanged(heap[0], ways, here + ("left",))
     right = exchanged(heap[2], ways, here + ("right",))
     return (right, heap[1], left) if list(here) in ways else (left, heap[1], right)
+
+
+DEEP_TUPLE, DEEP_LIST = nested(100000)
+
+# What is no form of at most 40 knots, whatever its keys.
+WRONG_FORMS = ([value for value in NOT_NUMBERS if value != ()] + [leaf(key) for key in NOT_NUMBERS]
+               + [(leaf(key), 0, ()) for key in NOT_NUMBERS] + [((), 0, leaf(key)) for key in NOT_NUMBERS]
+               + [0, 1, -1, "()", "heap", [()], {(): ()}, (1, 2), (1, 2, 3), (1, ()), ((), 1), ((), ()), ((),),
+                  ((), 1, (), ()), ((), (), 1, ()), (((), 2, (), 3), 1, ()), ((), 1, ((), 2)), (leaf(1), 1, ((), 1)),
+                  [(), 1, ()], [[], 1, []], ([], 1, ()), ((), 1, []), ((), 1, None), (leaf(2), 1, [(), 2, ()])]
+               + [made(range(many)) for made in (left_chain, right_chain, zigzag)
+                  for many in (41, 45, 80, 950, 5000)]
+               + [left_chain([0] * 41), right_chain([0] * 41)]
+               + [shared(levels) for levels in (6, 60, 1000, 100000)]
+               + [(leaf(1), 0, shared(100)), alike(200), balanced(41)]
+               + [made for deep in (DEEP_TUPLE, DEEP_LIST)
+                  for made in (deep, leaf(deep), (deep, 1, ()), ((), 1, deep))])
+
+# Forms whose keys are no heap's: a side's key is less than its own.
+WRONG_ORDERS = [(leaf(0), 1, ()), ((), 1, leaf(0)), (leaf(2), 1, ((), 3, leaf(2))), ((leaf(2), 3, ()), 1, leaf(2)),
+                (leaf(-10 ** 400 - 1), -10 ** 400, ()), left_chain(list(range(39)) + [37]),
+                right_chain(list(range(39)) + [37])]
+
+WRONG_HEAPS = WRONG_FORMS + WRONG_ORDERS
+
+# What is no list of at most 40 keys.
+ROUND = [1]
+ROUND.append(ROUND)
+WRONG_KEYS = ([value for value in NOT_NUMBERS if value not in ([], [1])]
+              + [row for key in NOT_NUMBERS for row in ([key], [5, key], [key, 5, 6])]
+              + [0, 1, (1, 2), "12", b"12", {1, 2}, iter([1]), leaf(1), ROUND, [0] * 41, list(range(41)),
+                 list(range(100000)), DEEP_LIST, DEEP_TUPLE, [DEEP_TUPLE], [1, DEEP_LIST], left_chain(range(5000))])

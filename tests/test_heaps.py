@@ -4,7 +4,7 @@ import unittest
 
 from heapmeld.errors import BadHeap
 from heapmeld.heaps import keys_of
-from tests.helpers import NOT_NUMBERS, at_once, balanced, leaf, left_chain, right_chain, shared, zigzag
+from tests.helpers import WRONG_HEAPS, balanced, leaf, left_chain, refuse_each, right_chain, shared, zigzag
 
 GREAT = 10 ** 400
 
@@ -46,67 +46,8 @@ class KeysOf(unittest.TestCase):
 
 
 class Refused(unittest.TestCase):
-    def refuse(self, heap):
-        with at_once(), self.assertRaises(BadHeap):
-            keys_of(heap)
-
-    def test_forty_one_keys(self):
-        keys = list(range(41))
-        for heap in (left_chain(keys), right_chain(keys), zigzag(keys), balanced(41), left_chain([0] * 41)):
-            self.refuse(heap)
-
-    def test_a_side_with_a_lesser_key(self):
-        self.refuse((leaf(0), 1, ()))
-        self.refuse(((), 1, leaf(0)))
-        self.refuse((leaf(2), 1, ((), 3, leaf(2))))
-        self.refuse(((leaf(2), 3, ()), 1, leaf(2)))
-        self.refuse((leaf(-GREAT - 1), -GREAT, ()))
-        self.refuse(left_chain(list(range(39)) + [37]))
-
-    def test_lists_in_place_of_tuples(self):
-        for heap in ([], [(), 1, ()], ([], 1, ()), ((), 1, []), (leaf(2), 1, [(), 2, ()]), [[], 1, []]):
-            self.refuse(heap)
-
-    def test_tuples_of_another_length(self):
-        for heap in ((1,), ((),), ((), 1), (1, ()), ((), 1, (), ()), ((), (), 1, ()), ((), 1, ((), 2)),
-                     (((), 2, (), 3), 1, ()), ((), ()), (1, 2, 3)):
-            self.refuse(heap)
-
-    def test_keys_that_are_no_numbers(self):
-        for key in NOT_NUMBERS:
-            with self.subTest(key=key):
-                self.refuse(leaf(key))
-                self.refuse((leaf(key), 0, ()))
-                self.refuse(((), 0, leaf(key)))
-
-    def test_what_is_no_heap_at_all(self):
-        for value in NOT_NUMBERS + [0, 1, -1, "()", "heap", [()], {(): ()}]:
-            if value != ():
-                with self.subTest(value=value):
-                    self.refuse(value)
-
-    def test_nested_very_deep(self):
-        keys = list(range(5000))
-        self.refuse(left_chain(keys))
-        self.refuse(right_chain(keys))
-        self.refuse(zigzag(keys))
-        deep_tuple, deep_list = (), []
-        for level in range(100000):
-            deep_tuple, deep_list = (deep_tuple,), [deep_list]
-        for deep in (deep_tuple, deep_list):
-            self.refuse(deep)
-            self.refuse(leaf(deep))
-            self.refuse((deep, 1, ()))
-            self.refuse(((), 1, deep))
-
-    def test_parts_that_stand_in_it_again_and_again(self):
-        for levels in (6, 60, 1000, 100000):
-            self.refuse(shared(levels))
-            self.refuse((leaf(1), 0, shared(levels)))
-        alike = ()
-        for level in range(200):
-            alike = (alike, 0, alike)
-        self.refuse(alike)
+    def test_what_is_no_heap_of_forty_keys(self):
+        refuse_each(self, BadHeap, keys_of, WRONG_HEAPS)
 
     def test_a_heap_within_the_limit_may_have_a_part_twice(self):
         self.assertEqual(len(keys_of(shared(5))), 31)

@@ -52,6 +52,22 @@ class Language(unittest.TestCase):
             if isinstance(node.value, str):
                 self.assertNotIn("%", node.value, name)
 
+    def test_powers_have_written_exponents(self):
+        for name, node in nodes(ast.BinOp):
+            if isinstance(node.op, ast.Pow):
+                self.assertIsInstance(node.right, ast.Constant, name)
+
+    def test_no_local_name_hides_an_import_or_a_class(self):
+        for file in FILES:
+            tree = ast.parse(file.read_text())
+            taken = {alias.name for node in tree.body if isinstance(node, ast.ImportFrom) for alias in node.names}
+            taken |= {node.name for node in tree.body if isinstance(node, ast.ClassDef)}
+            for node in ast.walk(tree):
+                if isinstance(node, ast.arg):
+                    self.assertNotIn(node.arg, taken, file.name)
+                if isinstance(node, ast.Name) and isinstance(node.ctx, ast.Store):
+                    self.assertNotIn(node.id, taken | BUILTINS, file.name)
+
     def test_names_are_plain(self):
         for name, node in nodes((ast.Name, ast.arg, ast.Attribute)):
             text = getattr(node, "id", None) or getattr(node, "arg", None) or node.attr

@@ -8,15 +8,10 @@ import unittest
 from heapmeld.errors import BadHeap, BadKey, BadShape
 from heapmeld.heaps import keys_of
 from heapmeld.rows import heap_of, how_many_rows, row_of
-from tests.helpers import (NOT_NUMBERS, at_once, balanced, form_of, forms, keyed, leaf, left_chain, right_chain,
-                           shared, zigzag)
+from tests.helpers import (WRONG_FORMS, WRONG_HEAPS, WRONG_KEYS, WRONG_ORDERS, balanced, form_of, forms, keyed, leaf,
+                           left_chain, mixed, refuse_each, right_chain, shared, zigzag)
 
 GREAT = 10 ** 400
-
-
-def mixed(many):
-    """So many unlike keys in no plain order."""
-    return [(at * 17 + 5) % 41 - 20 for at in range(many)]
 
 
 class RowOf(unittest.TestCase):
@@ -44,12 +39,7 @@ class RowOf(unittest.TestCase):
         self.assertEqual(row_of(()), [])
 
     def test_refused_like_any_heap(self):
-        keys = list(range(5000))
-        wrong = [[], None, 0, True, "", ((), True, ()), ((), None, ()), ((), "1", ()), (leaf(0), 1, ()), (1,),
-                 ((), 1, []), left_chain(range(41)), balanced(41), left_chain(keys), right_chain(keys), shared(100)]
-        for heap in wrong:
-            with at_once(), self.assertRaises(BadHeap):
-                row_of(heap)
+        refuse_each(self, BadHeap, row_of, WRONG_HEAPS)
 
 
 class HeapOf(unittest.TestCase):
@@ -97,45 +87,16 @@ class HeapOf(unittest.TestCase):
 
 
 class HeapOfRefused(unittest.TestCase):
-    def refuse(self, row):
-        with at_once(), self.assertRaises(BadKey):
-            heap_of(row)
-
     def test_alike_keys(self):
-        for row in ([1, 1], [0, 1, 0], [GREAT, GREAT + 0], [-1, -1], [0, -0], list(range(39)) + [38]):
-            self.refuse(row)
+        refuse_each(self, BadKey, heap_of, [[1, 1], [0, 1, 0], [GREAT, GREAT + 0], [-1, -1], [0, -0],
+                                            list(range(39)) + [38]])
 
-    def test_forty_one_keys(self):
-        self.refuse(list(range(41)))
-        self.refuse([0] * 41)
-        self.refuse(list(range(100000)))
-
-    def test_keys_that_are_no_numbers(self):
-        for key in NOT_NUMBERS:
-            with self.subTest(key=key):
-                self.refuse([key])
-                self.refuse([5, key])
-                self.refuse([key, 5, 6])
-
-    def test_what_is_no_list(self):
-        for row in NOT_NUMBERS + [0, 1, (1, 2), "12", b"12", {1: 2}, {1, 2}, range(3), iter([1]), leaf(1)]:
-            if row != [] and row != [1]:
-                with self.subTest(row=row):
-                    self.refuse(row)
-
-    def test_nested_very_deep(self):
-        deep_list, deep_tuple = [], ()
-        for level in range(5000):
-            deep_list, deep_tuple = [deep_list], (deep_tuple,)
-        for row in (deep_list, deep_tuple, [deep_tuple], [1, deep_list], left_chain(range(5000))):
-            self.refuse(row)
-        round_row = [1]
-        round_row.append(round_row)
-        self.refuse(round_row)
+    def test_what_is_no_list_of_forty_keys(self):
+        refuse_each(self, BadKey, heap_of, WRONG_KEYS)
 
     def test_a_refused_list_stays_as_it_was(self):
         row = [2, [1], 2]
-        self.refuse(row)
+        refuse_each(self, BadKey, heap_of, [row])
         self.assertEqual(row, [2, [1], 2])
 
 
@@ -183,39 +144,11 @@ class HowManyRows(unittest.TestCase):
 
 
 class HowManyRowsRefused(unittest.TestCase):
-    def refuse(self, shape):
-        with at_once(), self.assertRaises(BadShape):
-            how_many_rows(shape)
+    def test_what_is_no_form_of_forty_knots(self):
+        refuse_each(self, BadShape, how_many_rows, WRONG_FORMS)
 
-    def test_forty_one_knots(self):
-        for shape in (left_chain(range(41)), right_chain([0] * 41), zigzag(range(41)), balanced(41)):
-            self.refuse(shape)
-
-    def test_what_is_no_form(self):
-        for shape in NOT_NUMBERS + [0, 1, (1, 2), (1, 2, 3), ((), 1), ((), 1, (), ()), [(), 1, ()], ([], 1, ()),
-                                    ((), 1, []), ((), 1, None), (leaf(1), 1, ((), 1)), "()"]:
-            if shape != ():
-                with self.subTest(shape=shape):
-                    self.refuse(shape)
-
-    def test_keys_that_are_no_numbers(self):
-        for key in NOT_NUMBERS:
-            with self.subTest(key=key):
-                self.refuse(leaf(key))
-                self.refuse((leaf(key), 0, ()))
-                self.refuse(((), 0, leaf(key)))
-
-    def test_nested_very_deep(self):
-        deep_list, deep_tuple = [], ()
-        for level in range(5000):
-            deep_list, deep_tuple = [deep_list], (deep_tuple,)
-        for shape in (left_chain(range(5000)), right_chain([0] * 5000), zigzag(range(5000)), deep_list, deep_tuple,
-                      leaf(deep_tuple), (deep_tuple, 0, ()), ((), 0, deep_list)):
-            self.refuse(shape)
-
-    def test_parts_that_stand_in_it_again_and_again(self):
-        for levels in (6, 60, 1000, 100000):
-            self.refuse(shared(levels))
+    def test_only_the_form_is_asked_for(self):
+        self.assertEqual([how_many_rows(form) for form in WRONG_ORDERS], [1, 1, 3, 3, 1, 1, 1])
         self.assertEqual(how_many_rows(shared(4)), 21964800)
 
 
