@@ -75,7 +75,7 @@ def keys_in(trees):
 
 def is_pile(pile):
     """Whether this is a pile of at most 40 keys."""
-    if not isinstance(pile, list) or len(pile) > MOST_KEYS or not all([is_pair(tree) for tree in pile]):
+    if not isinstance(pile, list) or not all([is_pair(tree) for tree in pile]):
         return False
     # The count of keys is asked before the trees are gone through: so it bounds how far that goes.
     if not are_rising([order_of(tree) for tree in pile]) or keys_in(pile) > MOST_KEYS:
