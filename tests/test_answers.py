@@ -299,6 +299,8 @@ class BeyondTheLimit(unittest.TestCase):
             self.assertIs(Leans().shows(heap), False)
             self.assertIs(Slants([]).shows(heap), False)
             self.assertIs(Leaned(heap, []).shows(heap), False)
+            self.assertIs(Leaned(heap, []).shows(leaf(1)), False)
+            self.assertIs(Leaned(leaf(1), []).shows(heap), False)
 
 
 if __name__ == "__main__":
