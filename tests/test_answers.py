@@ -299,7 +299,7 @@ class BeyondTheLimit(unittest.TestCase):
             self.assertIs(Leans().shows(heap), False)
             self.assertIs(Slants([]).shows(heap), False)
             self.assertIs(Leaned(heap, []).shows(heap), False)
-            self.assertIs(Leaned(heap, []).shows(leaf(1)), False)
+            self.assertIs(Leaned(heap, []).shows(()), False)
             self.assertIs(Leaned(leaf(1), []).shows(heap), False)
 
 
